@@ -73,6 +73,9 @@ func wantRange(t *testing.T, s impl.Shape, field byte, least, most int64) {
 		if impl.ShapeOk(s) != want {
 			t.Errorf("%+v: right %v, want %v", s, !want, want)
 		}
+		if im := impl.Paint([]impl.Shape{s}, 1, 1); isZeroImage(im) == want {
+			t.Errorf("%+v: painted %v, want %v", s, !want, want)
+		}
 		if !want && impl.Inside(s, s.X, s.Y) {
 			t.Errorf("%+v: not as told, and has its own place", s)
 		}

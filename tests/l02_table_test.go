@@ -1,0 +1,59 @@
+package tests
+
+import (
+	"go/ast"
+	"go/parser"
+	"go/token"
+	"slices"
+	"testing"
+)
+
+// No answer shows the table of limits, so the text of the program is asked: init alone fills it, and an exported function reads it.
+func TestTableIsFilledAndRead(t *testing.T) {
+	file, err := parser.ParseFile(token.NewFileSet(), "../impl/l02_phantom.go", nil, 0)
+	if err != nil {
+		t.Fatal(err)
+	}
+	var filledBy, readBy []string
+	for _, d := range file.Decls {
+		f, ok := d.(*ast.FuncDecl)
+		if !ok {
+			continue
+		}
+		uses, fills := usesOf(f, "shapeLimits")
+		if fills > 0 {
+			filledBy = append(filledBy, f.Name.Name)
+		}
+		if uses > fills && f.Name.IsExported() {
+			readBy = append(readBy, f.Name.Name)
+		}
+	}
+	if !slices.Equal(filledBy, []string{"init"}) || len(readBy) == 0 {
+		t.Error("filled by", filledBy, "and read by", readBy)
+	}
+}
+
+// usesOf counts where a function names a variable, and of these where it writes into it.
+func usesOf(f *ast.FuncDecl, name string) (uses, fills int) {
+	named := func(n ast.Node) bool {
+		id, ok := n.(*ast.Ident)
+		return ok && id.Name == name
+	}
+	ast.Inspect(f, func(n ast.Node) bool {
+		if named(n) {
+			uses++
+		}
+		if a, ok := n.(*ast.AssignStmt); ok {
+			for _, to := range a.Lhs {
+				ast.Inspect(to, func(n ast.Node) bool {
+					if named(n) {
+						fills++
+					}
+					return true
+				})
+			}
+		}
+		return true
+	})
+	return uses, fills
+}
