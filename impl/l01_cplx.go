@@ -192,13 +192,16 @@ func CxAdd(a Cx, b Cx) Cx {
 	return fromNative(toNative(a) + toNative(b))
 }
 
-// CxMul spells the product out: each conversion keeps a product from being
-// joined with the sum behind it, which the language's own product allows.
 func CxMul(a Cx, b Cx) Cx {
-	x, y := toNative(a), toNative(b)
+	return fromNative(nativeProduct(toNative(a), toNative(b)))
+}
+
+// nativeProduct spells the product out: each conversion keeps a product from
+// being joined with the sum behind it, which the language's own product allows.
+func nativeProduct(x complex128, y complex128) complex128 {
 	re := float64(real(x)*real(y)) - float64(imag(x)*imag(y))
 	im := float64(real(x)*imag(y)) + float64(imag(x)*real(y))
-	return fromNative(complex(re, im))
+	return complex(re, im)
 }
 
 func CxTurn(a Cx, k int64) Cx {
@@ -215,7 +218,7 @@ func CxTurn(a Cx, k int64) Cx {
 	return fromNative(z)
 }
 
-// CxSize converts each product for the reason that CxMul does.
+// CxSize converts each product for the reason that nativeProduct does.
 func CxSize(a Cx) float64 {
 	return float64(a.Re*a.Re) + float64(a.Im*a.Im)
 }
