@@ -10,16 +10,8 @@ import (
 
 // No answer shows the table of limits, so the text of the program is asked: init alone fills it, and an exported function reads it.
 func TestTableIsFilledAndRead(t *testing.T) {
-	file, err := parser.ParseFile(token.NewFileSet(), "../impl/l02_phantom.go", nil, 0)
-	if err != nil {
-		t.Fatal(err)
-	}
 	var filledBy, readBy []string
-	for _, d := range file.Decls {
-		f, ok := d.(*ast.FuncDecl)
-		if !ok {
-			continue
-		}
+	for _, f := range functionsOf(t, "l02_phantom.go") {
 		uses, fills := usesOf(f, "shapeLimits")
 		if fills > 0 {
 			filledBy = append(filledBy, f.Name.Name)
@@ -31,6 +23,21 @@ func TestTableIsFilledAndRead(t *testing.T) {
 	if !slices.Equal(filledBy, []string{"init"}) || len(readBy) == 0 {
 		t.Error("filled by", filledBy, "and read by", readBy)
 	}
+}
+
+// functionsOf has the functions of a file of the program, as text.
+func functionsOf(t *testing.T, file string) []*ast.FuncDecl {
+	parsed, err := parser.ParseFile(token.NewFileSet(), "../impl/"+file, nil, 0)
+	if err != nil {
+		t.Fatal(err)
+	}
+	var list []*ast.FuncDecl
+	for _, d := range parsed.Decls {
+		if f, ok := d.(*ast.FuncDecl); ok {
+			list = append(list, f)
+		}
+	}
+	return list
 }
 
 // usesOf counts where a function names a variable, and of these where it writes into it.
