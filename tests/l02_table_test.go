@@ -8,11 +8,17 @@ import (
 	"testing"
 )
 
-// No answer shows the table of limits, so the text of the program is asked: init alone fills it, and an exported function reads it.
+// No answer shows the table of limits, so the text of the program is asked.
 func TestTableIsFilledAndRead(t *testing.T) {
+	wantFilledAtStart(t, "l02_phantom.go", "shapeLimits")
+}
+
+// wantFilledAtStart asks that init alone fills a variable, and that an exported function reads it.
+func wantFilledAtStart(t *testing.T, file, variable string) {
+	t.Helper()
 	var filledBy, readBy []string
-	for _, f := range functionsOf(t, "l02_phantom.go") {
-		uses, fills := usesOf(f, "shapeLimits")
+	for _, f := range functionsOf(t, file) {
+		uses, fills := usesOf(f, variable)
 		if fills > 0 {
 			filledBy = append(filledBy, f.Name.Name)
 		}
