@@ -239,13 +239,20 @@ func TestLineAskedAgain(t *testing.T) {
 	group.Wait()
 }
 
-// No goroutine is left when a call has answered: one that has closed its channel may need a moment to be gone, one that waits never goes.
 func TestNoGoroutineIsLeft(t *testing.T) {
-	before := runtime.NumGoroutine()
-	for range 20 {
+	wantNoneLeft(t, func() {
 		for _, ask := range transfersToAsk() {
 			impl.Transfer(ask.letters, ask.size, ask.fates, ask.rounds)
 		}
+	})
+}
+
+// wantNoneLeft asks that no goroutine is left when calls have answered: one that has done its last deed may need a moment to be gone, one that waits never goes.
+func wantNoneLeft(t *testing.T, calls func()) {
+	t.Helper()
+	before := runtime.NumGoroutine()
+	for range 20 {
+		calls()
 	}
 	for end := time.Now().Add(5 * time.Second); runtime.NumGoroutine() > before && time.Now().Before(end); {
 		time.Sleep(time.Millisecond)
@@ -255,9 +262,14 @@ func TestNoGoroutineIsLeft(t *testing.T) {
 	}
 }
 
-// Nothing is kept from call to call: the line has no variable at package level.
 func TestLineKeepsNothing(t *testing.T) {
-	parsed, err := parser.ParseFile(token.NewFileSet(), "../impl/l15_net.go", nil, 0)
+	wantNothingKept(t, "l15_net.go")
+}
+
+// wantNothingKept asks that a file of the program has no variable at package level, so that nothing is kept from call to call.
+func wantNothingKept(t *testing.T, file string) {
+	t.Helper()
+	parsed, err := parser.ParseFile(token.NewFileSet(), "../impl/"+file, nil, 0)
 	if err != nil {
 		t.Fatal(err)
 	}
